@@ -1,10 +1,14 @@
-"""What all tests of the program share: asking it with care, and small sets of needs to walk."""
+"""What all tests of the program share: asking it with care, works and needs to walk, and what is right of them.
+
+What is right is told here by the document's words alone, and never by asking the program itself.
+"""
 
 import copy
 import itertools
 import unittest
 
 from hastebook.errors import BookError, NoName, NoOrder, NoRoom, NoRow, NoText
+from hastebook.haste import plan_at, stream_at
 
 REFUSALS = (NoOrder, NoRoom, NoRow, NoName, NoText)
 
@@ -49,11 +53,12 @@ def right_needs(many):
 
 def all_ways(many, needs):
     """Every way, found by stepping on from each work as long as a need leads on."""
+    steps = {tuple(need) for need in needs}
     ways = []
     fresh = [[work] for work in range(many)]
     while fresh:
         ways += fresh
-        fresh = [way + [work] for way in fresh for work in range(many) if [way[-1], work] in needs]
+        fresh = [way + [work] for way in fresh for work in range(many) if (way[-1], work) in steps]
     return ways
 
 
@@ -61,6 +66,8 @@ def wrong_needs(many):
     """Needs among two works or more that are refused, the wrong ones at every place in the list."""
     right = [[0, 1], [0, 1]]
     wrong = [[[work, work]] for work in range(many)] + [[[1, 0]]]
+    # Rings of three works and more, closed by their last need.
+    wrong += [[[work, work + 1] for work in range(1, last)] + [[last, 0]] for last in range(2, many)]
     wrong += [[[number, 1]] for number in no_works(many)]
     wrong += [[[0, number]] for number in no_works(many)]
     wrong += [[[number, number]] for number in no_works(many)]
@@ -69,17 +76,191 @@ def wrong_needs(many):
             yield copy.deepcopy(right[:place] + rows + right[place:])
 
 
+def refused_cases():
+    """Works with needs that are refused: each kind of wrong ones, at every place, among few works and among eight."""
+    for number in [0] + no_works(0):
+        yield [], [[number, 0]]
+        yield [], [[0, number]]
+    for number in [0] + no_works(1):
+        yield [[3, 1, 1]], [[number, 0]]
+        yield [[3, 1, 1]], [[0, number]]
+    for works in ([[4, 2, 3], [5, 5, 0]], [[0, 0, 0]] * 3, [[THIRTY, 0, THIRTY]] * 8):
+        for needs in wrong_needs(len(works)):
+            yield copy.deepcopy(works), needs
+    for many in range(2, 9):
+        ring = [[work, (work + 1) % many] for work in range(many)]
+        for place in range(many):
+            yield [[2, 1, 1]] * many, copy.deepcopy(ring[place:] + ring[:place])
+    # Here the work that all others need stands in no ring.
+    yield [[2, 1, 1]] * 4, [[0, 1], [1, 2], [2, 3], [3, 1]]
+
+
+def hours_of(way, hours):
+    return sum(hours[work] for work in way)
+
+
+def length_of(hours, ways):
+    return max([hours_of(way, hours) for way in ways], default=0)
+
+
+def is_plan(works, needs, end, plan):
+    """Point 8, clause by clause."""
+    if end < 0 or len(plan) != len(works) or any(len(row) != 2 for row in plan):
+        return False
+    rows = list(zip(works, plan))
+    return (
+        all(begin >= 0 for work, (begin, hours) in rows)
+        and all(least <= hours <= usual for (usual, least, price), (begin, hours) in rows)
+        and all(begin + hours <= end for work, (begin, hours) in rows)
+        and all(plan[first][0] + plan[first][1] <= plan[second][0] for first, second in needs)
+    )
+
+
+def plan_price(works, plan):
+    return sum(price * (usual - hours) for (usual, least, price), (begin, hours) in zip(works, plan))
+
+
+def stream_worth(works, rows, end):
+    """Point 10 by the words in its brackets: the least is at the usual hours or at the least ones."""
+    total = -end * sum(row[0] for row in rows)
+    for number, (usual, least, price) in enumerate(works):
+        amount = sum(row[0] for row in rows if number in row[1:])
+        total += min(amount * usual, price * (usual - least) + amount * least)
+    return total
+
+
+def least_prices(works, needs):
+    """The least price for each end from the least one on, by a search over all hours; the last has price 0."""
+    ways = all_ways(len(works), needs)
+    found = {}
+    for hours in itertools.product(*[range(least, usual + 1) for usual, least, price in works]):
+        end = length_of(hours, ways)
+        price = plan_price(works, [[0, took] for took in hours])
+        found[end] = min(price, found.get(end, price))
+    prices = {}
+    for end in range(min(found), max(found) + 1):
+        prices[end] = min(price for other, price in found.items() if other <= end)
+        if prices[end] == 0:
+            return prices
+
+
+def expected_corners(prices):
+    """The corners of least prices that were found by a search."""
+    ends = sorted(prices, reverse=True)
+    steps = [prices[end - 1] - prices[end] for end in ends[:-1]]
+    kept = [end for end, ahead, behind in zip(ends[1:], steps, steps[1:]) if ahead != behind]
+    return [[end, prices[end]] for end in sorted({ends[0], ends[-1], *kept}, reverse=True)]
+
+
+def all_kinds(hours, price):
+    """Every work with no more hours and no greater price than these."""
+    for usual in range(hours + 1):
+        for least in range(usual + 1):
+            for one in range(price + 1):
+                yield [usual, least, one]
+
+
+def small_cases():
+    """Few works with small hours and prices, with all needs of them."""
+    yield [], []
+    for work in all_kinds(3, 2):
+        yield [work], []
+    for pair in itertools.product(all_kinds(2, 1), repeat=2):
+        for needs in right_needs(2):
+            yield [list(work) for work in pair], needs
+    threes = (
+        [[2, 0, 1], [2, 0, 2], [2, 0, 3]],
+        [[3, 1, 2], [1, 0, 0], [2, 0, 1]],
+        [[1, 1, 5], [3, 0, 4], [3, 0, 1]],
+        [[2, 2, 0], [2, 0, 0], [1, 0, 3]],
+        [[0, 0, 0], [3, 1, 1], [3, 2, 1]],
+        [[3, 0, 1], [3, 0, 1], [3, 0, 1]],
+    )
+    for works in threes:
+        for needs in right_needs(3):
+            yield copy.deepcopy(works), needs
+    for needs in right_needs(4):
+        yield [[2, 0, 3], [2, 1, 1], [1, 0, 2], [2, 0, 2]], needs
+    yield copy.deepcopy(GIVEN_BACK)
+
+
+# For the ends 9 and 8 work 2 has to get hours back that were saved for the ends 11 and 10.
+GIVEN_BACK = (
+    [[4, 1, 4], [6, 4, 10], [4, 2, 3], [6, 4, 10], [4, 1, 4]],
+    [[0, 2], [0, 3], [2, 4], [1, 4]],
+)
+
+# Needs of eight works: none, one behind the other, each behind all ahead of it, four layers, a saw,
+# and two lots beside one another with works that lead from the one to the other.
+EIGHT_NEEDS = (
+    [],
+    [[work, work + 1] for work in range(7)],
+    [[first, second] for second in range(8) for first in range(second)],
+    [[first, second] for first in range(8) for second in range(8) if second // 2 == first // 2 + 1],
+    [[0, 4], [0, 5], [1, 5], [1, 6], [2, 6], [2, 7], [3, 7], [3, 4]],
+    [[7, 6], [6, 5], [5, 4], [3, 2], [2, 1], [1, 0], [7, 2], [3, 5], [6, 0], [3, 5]],
+)
+
+
+def made_numbers(seed, most):
+    """Numbers from 0 to the most one, the same ones at every run."""
+    while True:
+        seed = (seed * 6364136223846793005 + 1442695040888963407) % 2 ** 64
+        yield (seed >> 20) * most // 2 ** 44
+
+
+def made_works(many, seed, hours, price):
+    some_hours = made_numbers(seed, hours)
+    some_prices = made_numbers(seed + 1, price)
+    works = []
+    for work in range(many):
+        pair = sorted([next(some_hours), next(some_hours)])
+        works.append([pair[1], pair[0], next(some_prices)])
+    return works
+
+
+def great_cases():
+    """Eight works, with hours and prices from small ones to those of thirty figures; and somewhat more of both."""
+    for seed, needs in enumerate(EIGHT_NEEDS):
+        for hours, price in ((40, 5), (10 ** 6, 90), (THIRTY, 9), (9, THIRTY), (THIRTY, THIRTY)):
+            yield made_works(8, seed, hours, price), copy.deepcopy(needs)
+        yield [[THIRTY, 0, THIRTY - work] for work in range(8)], copy.deepcopy(needs)
+        yield [[THIRTY - work, work, 0 if work % 3 else THIRTY] for work in range(8)], copy.deepcopy(needs)
+    works, needs = GIVEN_BACK
+    part = THIRTY // 10
+    yield [[usual * part, least * part, price * part] for usual, least, price in works], needs * 80
+    yield made_works(10, 5, BEYOND, BEYOND), [[first, second] for second in range(10) for first in range(second)] * 10
+
+
+def far_ends(least, free):
+    """Ends from the least one on where what is told may turn."""
+    between = [least + (free - least) * part // 7 for part in range(8)]
+    ends = {least, least + 1, free, free + 1, free + SEVENTY, *between}
+    return sorted(ends | {end for end in (free - 1,) if end >= least})
+
+
+def short_ends(least):
+    """Ends below the least one."""
+    ends = {least - 1, least - 2, -1, -2, -SEVENTY, -BEYOND}
+    return sorted(ends | {end for end in (0, 1, least // 2) if end < least})
+
+
 class BookCase(unittest.TestCase):
     def ask(self, call, *given):
-        """The answer of a second asking, behind a first one whose answer was changed (point 2)."""
+        """The answer of a second asking, round which the first one's was kept and then changed (point 2)."""
         before = copy.deepcopy(given)
         first = call(*given)
         self.assertEqual(given, before)
-        if isinstance(first, list):
-            spoil(first)
-            self.assertEqual(given, before, "what was told is what was handed in")
+        kept = copy.deepcopy(first)
         second = call(*given)
         self.assertEqual(given, before)
+        self.assertEqual(first, kept, "a later asking changed what was told")
+        if isinstance(first, list):
+            kept = copy.deepcopy(second)
+            spoil(first)
+            self.assertEqual(given, before, "what was told is what was handed in")
+            self.assertEqual(second, kept, "what was told is what was told ahead of it")
+            second = call(*given)
         self.assertIsNot(second, None)
         return second
 
@@ -88,7 +269,33 @@ class BookCase(unittest.TestCase):
         self.assertEqual(answer, expected, given)
         self.assertIs(type(answer), type(expected))
         if isinstance(answer, list):
-            self.assertTrue(all(type(thing) is int for thing in answer))
+            self.whole_numbers(answer)
+
+    def tells_none(self, call, *given):
+        before = copy.deepcopy(given)
+        for asking in range(2):
+            self.assertIsNone(call(*given), given)
+            self.assertEqual(given, before)
+
+    def whole_numbers(self, answer):
+        for thing in answer:
+            if type(thing) is list:
+                self.whole_numbers(thing)
+            else:
+                self.assertIs(type(thing), int)
+
+    def cheapest(self, works, needs, end):
+        """The least price for an end: a plan that keeps it costs that much, and a stream is worth that much."""
+        given = (works, needs, end)
+        plan = self.ask(plan_at, *given)
+        rows = self.ask(stream_at, *given)
+        self.whole_numbers(plan)
+        self.whole_numbers(rows)
+        self.assertTrue(is_plan(works, needs, end, plan), (given, plan))
+        ways = all_ways(len(works), needs)
+        self.assertTrue(all(row[0] >= 1 and row[1:] in ways for row in rows), (given, rows))
+        self.assertEqual(plan_price(works, plan), stream_worth(works, rows, end), (given, plan, rows))
+        return plan_price(works, plan)
 
     def refuses(self, refusal, call, *given):
         before = copy.deepcopy(given)

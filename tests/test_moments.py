@@ -4,7 +4,7 @@ import itertools
 
 from hastebook.errors import NoOrder, NoRoom
 from hastebook.moments import earliest, latest, length, longest, spare
-from tests.helper import BEYOND, SEVENTY, THIRTY, BookCase, all_ways, right_needs, wrong_needs
+from tests.helper import BEYOND, SEVENTY, THIRTY, BookCase, all_ways, hours_of, right_needs, wrong_needs
 
 # Work 3 needs both 1 and 2, these need 0; work 4 stands by itself.
 HOURS = [2, 5, 3, 4, 1]
@@ -20,10 +20,6 @@ def small_cases():
     for needs in right_needs(4):
         for hours in ([0, 0, 0, 0], [1, 1, 1, 1], [2, 0, 3, 1], [THIRTY, 1, THIRTY - 1, 0]):
             yield list(hours), needs
-
-
-def hours_of(way, hours):
-    return sum(hours[work] for work in way)
 
 
 class TestEarliest(BookCase):
