@@ -1,4 +1,4 @@
-"""The net of pipes that works and needs make, and how just so much is led through it as an end asks for.
+"""The net of pipes that works and needs make, and how just so much is led through it as an end or a bonus asks for.
 
 Each work has two places in the net, one where it begins and one where it is done. Two pipes join them:
 the one has the usual hours and as much room as the price, the other the least hours and room for all.
@@ -22,12 +22,12 @@ class Pipe:
 
 
 class Net:
-    def __init__(self, works, needs):
+    def __init__(self, works, needs, bonus=0):
         self.pipes = []
         self.places = 2 * len(works) + 2
         # Where more goes through than all prices together, some of it takes the least hours all along its
-        # way. No end from the least one on asks for that, so this room is never used up.
-        plenty = sum([work[2] for work in works]) + 1
+        # way. No end from the least one on asks for that, but a bonus may: so this room is never used up.
+        plenty = sum([work[2] for work in works]) + bonus + 1
         for number, work in enumerate(works):
             self.lay(SOURCE, begin_place(number), 0, plenty)
             self.lay(begin_place(number), done_place(number), work[0], work[2])
@@ -48,8 +48,17 @@ class Net:
     def fill(self, end):
         moments = self.moments(0)
         while moments[SINK] > end:
-            pour(tight_route(self.open_pipes(), moments))
+            route = tight_route(self.open_pipes(), moments)
+            pour(route, room_on(route))
             moments = self.moments(0)
+
+    # Needs a work to lead it through, and an amount no greater than the bonus that the net was made for.
+    def lead(self, amount):
+        missing = amount - self.amount()
+        while missing > 0:
+            route = tight_route(self.open_pipes(), self.moments(0))
+            pour(route, min(missing, room_on(route)))
+            missing = amount - self.amount()
 
     # The least moments, none below 0 and the sink's not below the end, between which all open pipes' hours fit.
     def moments(self, end):
@@ -124,8 +133,11 @@ def next_routes(routes, pipes):
     return fresh
 
 
-def pour(route):
-    amount = min([pipe.room for pipe in route])
+def room_on(route):
+    return min([pipe.room for pipe in route])
+
+
+def pour(route, amount):
     for pipe in route:
         pipe.room -= amount
         pipe.back.room += amount

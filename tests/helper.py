@@ -5,8 +5,10 @@ What is right is told here by the document's words alone, and never by asking th
 
 import copy
 import itertools
+import re
 import unittest
 
+from hastebook.books import Book
 from hastebook.errors import BookError, NoName, NoOrder, NoRoom, NoRow, NoText
 from hastebook.haste import plan_at, stream_at
 
@@ -23,14 +25,21 @@ def no_works(many):
     return [-1, -many, -many - 1, many, many + 1, SEVENTY, -SEVENTY, BEYOND, -BEYOND]
 
 
+def lists_in(answer):
+    """The told lists of an answer, those within one another too."""
+    found = [answer] if isinstance(answer, list) else []
+    if isinstance(answer, (list, tuple)):
+        for thing in answer:
+            found += lists_in(thing)
+    return found
+
+
 def spoil(answer):
-    """Change a told list as its asker may."""
-    for thing in answer:
-        if isinstance(thing, list):
-            spoil(thing)
-    answer.reverse()
-    answer.append(-77)
-    answer[0] = -78
+    """Change all told lists as their asker may."""
+    for told in lists_in(answer):
+        told.reverse()
+        told.append(-77)
+        told[0] = -78
 
 
 def all_needs(many):
@@ -152,6 +161,15 @@ def expected_corners(prices):
     return [[end, prices[end]] for end in sorted({ends[0], ends[-1], *kept}, reverse=True)]
 
 
+def price_between(told, end):
+    """What told corners say of an end from the last one's on."""
+    if end >= told[0][0]:
+        return 0
+    for (later, price), (sooner, more) in zip(told, told[1:]):
+        if sooner <= end:
+            return price + (more - price) * (later - end) // (later - sooner)
+
+
 def all_kinds(hours, price):
     """Every work with no more hours and no greater price than these."""
     for usual in range(hours + 1):
@@ -255,7 +273,9 @@ class BookCase(unittest.TestCase):
         second = call(*given)
         self.assertEqual(given, before)
         self.assertEqual(first, kept, "a later asking changed what was told")
-        if isinstance(first, list):
+        if isinstance(first, (list, tuple)):
+            told = lists_in(first)
+            self.assertEqual(len({id(one) for one in told}), len(told), "one list was told at two places")
             kept = copy.deepcopy(second)
             spoil(first)
             self.assertEqual(given, before, "what was told is what was handed in")
@@ -268,7 +288,7 @@ class BookCase(unittest.TestCase):
         answer = self.ask(call, *given)
         self.assertEqual(answer, expected, given)
         self.assertIs(type(answer), type(expected))
-        if isinstance(answer, list):
+        if isinstance(answer, (list, tuple)):
             self.whole_numbers(answer)
 
     def tells_none(self, call, *given):
@@ -278,11 +298,17 @@ class BookCase(unittest.TestCase):
             self.assertEqual(given, before)
 
     def whole_numbers(self, answer):
+        """Within a told list or tuple stand lists and whole numbers alone."""
         for thing in answer:
             if type(thing) is list:
                 self.whole_numbers(thing)
             else:
                 self.assertIs(type(thing), int)
+
+    def is_right_stream(self, works, needs, rows):
+        self.whole_numbers(rows)
+        ways = all_ways(len(works), needs)
+        self.assertTrue(all(row[0] >= 1 and row[1:] in ways for row in rows), (works, needs, rows))
 
     def cheapest(self, works, needs, end):
         """The least price for an end: a plan that keeps it costs that much, and a stream is worth that much."""
@@ -290,10 +316,8 @@ class BookCase(unittest.TestCase):
         plan = self.ask(plan_at, *given)
         rows = self.ask(stream_at, *given)
         self.whole_numbers(plan)
-        self.whole_numbers(rows)
         self.assertTrue(is_plan(works, needs, end, plan), (given, plan))
-        ways = all_ways(len(works), needs)
-        self.assertTrue(all(row[0] >= 1 and row[1:] in ways for row in rows), (given, rows))
+        self.is_right_stream(works, needs, rows)
         self.assertEqual(plan_price(works, plan), stream_worth(works, rows, end), (given, plan, rows))
         return plan_price(works, plan)
 
@@ -306,3 +330,236 @@ class BookCase(unittest.TestCase):
         for other in REFUSALS:
             self.assertEqual(isinstance(caught.exception, other), other is refusal)
         self.assertEqual(given, before)
+
+
+# Behind each first word what the further words are: a name, a work's name, a number's text.
+ROW_WORDS = {
+    "work": ("name", "number", "number", "number"),
+    "need": ("standing", "standing"),
+    "free": ("standing", "standing"),
+    "drop": ("standing",),
+    "names": (),
+    "show": ("standing",),
+    "ends": (),
+    "price": ("number",),
+    "plan": ("number",),
+    "why": ("number",),
+    "curve": (),
+    "spare": ("number",),
+    "budget": ("number",),
+    "bonus": ("number",),
+}
+
+
+class Mirror:
+    """What a book should keep, and what it should refuse: points 16 and 17."""
+
+    def __init__(self):
+        self.names = []
+        self.works = []
+        self.pairs = set()
+
+    def needs(self):
+        return sorted([self.names.index(first), self.names.index(second)] for first, second in self.pairs)
+
+    def refusal_of(self, row):
+        first, *words = row.split(" ")
+        if first not in ROW_WORDS or len(words) != len(ROW_WORDS[first]):
+            return NoRow
+        for kind, word in zip(ROW_WORDS[first], words):
+            if kind == "number" and not re.fullmatch("0|[1-9][0-9]{0,29}", word):
+                return NoText
+            if kind == "name" and not re.fullmatch("[a-z]{1,8}", word):
+                return NoName
+            if kind == "standing" and word not in self.names:
+                return NoName
+        if first == "work" and int(words[1]) < int(words[2]):
+            return NoText
+        if first == "work" and words[0] not in self.names and len(self.names) == 8:
+            return NoRoom
+        if first == "need" and words[0] in self.needed_by(words[1]):
+            return NoOrder
+        return None
+
+    def needed_by(self, name):
+        """The work itself, and all works that need it in whatever many steps."""
+        found = {name}
+        for step in self.names:
+            found |= {second for first, second in self.pairs if first in found}
+        return found
+
+    def change(self, row):
+        first, *words = row.split(" ")
+        if first == "work":
+            if words[0] not in self.names:
+                self.names.append(words[0])
+                self.works.append(None)
+            self.works[self.names.index(words[0])] = [int(word) for word in words[1:]]
+        if first == "need":
+            self.pairs.add(tuple(words))
+        if first == "free":
+            self.pairs.discard(tuple(words))
+        if first == "drop":
+            self.works.pop(self.names.index(words[0]))
+            self.names.remove(words[0])
+            self.pairs = {pair for pair in self.pairs if words[0] not in pair}
+
+
+class RowCase(BookCase):
+    """Tells rows to a book, and knows what it should keep."""
+
+    def setUp(self):
+        self.book = Book()
+        self.mirror = Mirror()
+
+    def answer(self, row):
+        told = self.book.say(row)
+        self.assertIs(type(told), str, row)
+        return told
+
+    def answers(self, expected, row):
+        for asking in range(2):
+            self.assertEqual(self.answer(row), expected, (row, self.mirror.names, self.mirror.works))
+
+    def tell(self, *rows):
+        """Rows that change the book, each of which it should take."""
+        for row in rows:
+            self.assertIsNone(self.mirror.refusal_of(row), row)
+            self.mirror.change(row)
+            self.assertEqual(self.answer(row), "ok", row)
+            self.keeps_what_it_should()
+
+    def is_refused(self, refusal, *rows):
+        for row in rows:
+            self.assertIs(self.mirror.refusal_of(row), refusal, row)
+            self.refuses(refusal, self.book.say, row)
+            self.keeps_what_it_should()
+
+    def keeps_what_it_should(self):
+        names = self.mirror.names
+        self.answers(" ".join(names), "names")
+        for name, work in zip(names, self.mirror.works):
+            firsts = [first for first in names if (first, name) in self.mirror.pairs]
+            self.answers(" ".join([str(number) for number in work] + firsts), f"show {name}")
+
+    def put(self, works, needs, names="abcdefgh"):
+        for name, (usual, least, price) in zip(names, works):
+            self.tell(f"work {name} {usual} {least} {price}")
+        for first, second in needs:
+            self.tell(f"need {names[first]} {names[second]}")
+
+    def told_plan(self, end):
+        """The plan that the book tells; None where it tells that there is none."""
+        text = self.answer(f"plan {end}")
+        if text == "none":
+            return None
+        rows = [row.split(" ") for row in text.split("; ")] if text else []
+        self.assertEqual([row[0] for row in rows], self.mirror.names, text)
+        plan = [[int(word) for word in row[1:]] for row in rows]
+        self.assertEqual(text, "; ".join(f"{row[0]} {begin} {hours}" for row, (begin, hours) in zip(rows, plan)))
+        return plan
+
+    def told_stream(self, end):
+        text = self.answer(f"why {end}")
+        rows = [row.split(" ") for row in text.split("; ")] if text else []
+        for row in rows:
+            self.assertRegex(row[0], "^[1-9][0-9]*$", text)
+        return [[int(row[0])] + self.numbers_of(row[1:]) for row in rows]
+
+    def amounts_by_ways(self, end):
+        """What a told stream leads along each way; one way may stand in several lists."""
+        found = {}
+        for row in self.answer(f"why {end}").split("; "):
+            amount, ignored, way = row.partition(" ")
+            found[way] = found.get(way, 0) + int(amount)
+        return found
+
+    def numbers_of(self, names):
+        self.assertTrue(set(names) <= set(self.mirror.names), names)
+        return [self.mirror.names.index(name) for name in names]
+
+    def told_price(self, end):
+        """The least price for an end: by a plan, by a stream, and by the price that is told; None where none is."""
+        works, needs = self.mirror.works, self.mirror.needs()
+        plan = self.told_plan(end)
+        if plan is None:
+            self.answers("none", f"price {end}")
+            self.tells_a_way(end)
+            return None
+        self.assertTrue(is_plan(works, needs, end, plan), (works, needs, end, plan))
+        price = plan_price(works, plan)
+        rows = self.told_stream(end)
+        self.is_right_stream(works, needs, rows)
+        self.assertEqual(stream_worth(works, rows, end), price, (works, needs, end, rows))
+        self.answers(str(price), f"price {end}")
+        return price
+
+    def tells_a_way(self, end):
+        first, *names = self.answer(f"why {end}").split(" ")
+        way = self.numbers_of(names)
+        self.assertEqual(first, "way")
+        self.assertIn(way, all_ways(len(self.mirror.works), self.mirror.needs()))
+        self.assertGreater(hours_of(way, [work[1] for work in self.mirror.works]), end)
+
+    def both_ends(self):
+        works = self.mirror.works
+        ways = all_ways(len(works), self.mirror.needs())
+        least = length_of([work[1] for work in works], ways)
+        return least, length_of([usual if price else least for usual, least, price in works], ways)
+
+    def told_corners(self):
+        text = self.answer("curve")
+        told = [[int(word) for word in row.split(" ")] for row in text.split("; ")]
+        self.assertEqual(text, "; ".join(f"{end} {price}" for end, price in told))
+        return told
+
+    def all_is_right(self, most_ends=99):
+        """Every asking: at each end from 0 on to behind the free one or, where these are too many, at the corners."""
+        least, free = self.both_ends()
+        self.answers(f"{least} {free}", "ends")
+        corners = self.told_corners()
+        turns = {end + shift for end, price in corners for shift in (-1, 0, 1)}
+        ends = [*range(free + 3)] if free < most_ends else [0, *sorted(turns), free + 2]
+        prices = {end: self.told_price(end) for end in ends + [THIRTY] if end >= 0}
+        self.assertEqual([end for end in prices if prices[end] is not None], [end for end in prices if end >= least])
+        self.curve_is_right(corners, prices, least, free)
+        self.spare_is_right()
+        self.wishes_are_right(corners)
+
+    def curve_is_right(self, corners, prices, least, free):
+        self.assertEqual(corners[0], [free, 0])
+        self.assertEqual(corners[-1][0], least)
+        steps = [(more - price) // (end - sooner) for (end, price), (sooner, more) in zip(corners, corners[1:])]
+        self.assertEqual([0, *steps], sorted({0, *steps}))
+        for end, price in prices.items():
+            if price is not None:
+                self.assertEqual(price, price_between(corners, end))
+
+    def spare_is_right(self):
+        works = self.mirror.works
+        usual = [work[0] for work in works]
+        ways = all_ways(len(works), self.mirror.needs())
+        whole = length_of(usual, ways)
+        longest = [max(hours_of(way, usual) for way in ways if work in way) for work in range(len(works))]
+        for end in (0, 1, whole - 1, whole, whole + 1, whole + 7):
+            if end >= whole:
+                self.answers(" ".join(str(end - hours) for hours in longest), f"spare {end}")
+            elif end >= 0:
+                self.answers("none", f"spare {end}")
+
+    def wishes_are_right(self, corners):
+        """The least ends for budgets and the best ends for bonuses, by corners that were found right."""
+        pieces = list(zip(corners, corners[1:]))
+        steps = [(more - price) // (end - sooner) for (end, price), (sooner, more) in pieces]
+        for budget in {0, 1} | {price + shift for end, price in corners for shift in (-1, 0, 1)}:
+            if 0 <= budget <= THIRTY:
+                expected = corners[-1][0]
+                for step, ((end, price), (sooner, more)) in zip(steps, pieces):
+                    if price <= budget < more:
+                        expected = end - (budget - price) // step
+                self.answers(str(expected), f"budget {budget}")
+        for bonus in {0, 1, THIRTY} | {step + shift for step in steps for shift in (-1, 0, 1)}:
+            if 0 <= bonus <= THIRTY:
+                total = min(price + bonus * end for end, price in corners)
+                best = min(end for end, price in corners if price + bonus * end == total)
+                self.answers(f"{best} {total}", f"bonus {bonus}")

@@ -14,6 +14,7 @@ from tests.helper import (
     great_cases,
     least_prices,
     length_of,
+    price_between,
     refused_cases,
     short_ends,
     small_cases,
@@ -22,15 +23,6 @@ from tests.helper import (
 WORKS = [[4, 2, 3], [5, 5, 0], [6, 0, 10]]
 NEEDS = [[0, 1], [0, 2]]
 CHAIN = [[work, work + 1] for work in range(7)]
-
-
-def price_between(told, end):
-    """What told corners say of an end from the last one's on."""
-    if end >= told[0][0]:
-        return 0
-    for (later, price), (sooner, more) in zip(told, told[1:]):
-        if sooner <= end:
-            return price + (more - price) * (later - end) // (later - sooner)
 
 
 class TestCorners(BookCase):
